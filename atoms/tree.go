@@ -16,6 +16,7 @@ type node interface {
 	level() int
 	write(out *strings.Builder, from, to int)
 	bodies(yield func(string) bool) bool
+	ahead(c Counts, encoding int, fit func(Counts) bool) Counts
 }
 
 // common is that part. The height is that of the longest way down to a leaf.

@@ -78,10 +78,25 @@ func (d *Doc) Show() api.State {
 func (d *Doc) Stable() bool { return d.stable() }
 
 // Position tells line and column of an offset (P7).
-func (d *Doc) Position(offset int) (int, int, api.Errno) { return 0, 0, api.OK }
+func (d *Doc) Position(offset int) (int, int, api.Errno) {
+	ahead, err := d.place(offset)
+	if err != api.OK {
+		return 0, 0, err
+	}
+	line, column := d.position(ahead)
+	return line, column, api.OK
+}
 
 // Offset tells the offset of a line and column (P7).
-func (d *Doc) Offset(line int, column int) (int, api.Errno) { return 0, api.OK }
+func (d *Doc) Offset(line int, column int) (int, api.Errno) {
+	switch {
+	case line < 0 || line > d.body.Counts().LineEnds():
+		return 0, api.ErrLine
+	case column < 0:
+		return 0, api.ErrRange
+	}
+	return d.offset(line, column), api.OK
+}
 
 // Replace puts a text in place of what stands between two offsets (P8).
 func (d *Doc) Replace(from int, to int, text string) api.Errno { return api.OK }
