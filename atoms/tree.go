@@ -17,6 +17,9 @@ type node interface {
 	write(out *strings.Builder, from, to int)
 	bodies(yield func(string) bool) bool
 	ahead(c Counts, encoding int, fit func(Counts) bool) Counts
+	upTo(place int) Tree
+	behind(place int) Tree
+	reended(encoding int, end code.Kind, most int) Tree
 }
 
 // common is that part. The height is that of the longest way down to a leaf.
@@ -49,6 +52,20 @@ func Leaf(encoding int, b string, most int) Tree {
 		c.add(a)
 	}
 	return Tree{&leaf{common{c, 0}, b[:c.Body]}}
+}
+
+// Row makes a tree of all atoms of b, behind which there must be no tail, in leaves of much the same size, each of at most so many bytes, which must be twice those of the longest atom or more.
+func Row(encoding int, b string, most int) Tree {
+	var row Tree
+	for b != "" {
+		leaves := (len(b) + most - 1) / most
+		size := (len(b) + leaves - 1) / leaves
+		view := min(size+code.Reach, len(b))
+		leaf := Leaf(encoding, strings.Clone(b[:view]), size) // a copy, since the leaf may be kept longer than the others
+		row = Join(row, leaf)
+		b = b[leaf.Counts().Body:]
+	}
+	return row
 }
 
 // Counts tells what is counted of all atoms.

@@ -15,15 +15,16 @@ const MarkSize = 3
 // Reach: no atom has more bytes, so that one with so many in view is read as it is with all of them.
 const Reach = 4
 
-// encodings has a row for each encoding: its mark, and where in a unit of two bytes the low and the high one stand.
+// encodings has a row for each encoding: its mark, the greatest character that it has, and where in a unit of two bytes the low and the high one stand.
 var encodings = [4]struct {
 	mark      string
+	greatest  rune
 	low, high int
 }{
-	api.Utf8:   {mark: "\xef\xbb\xbf"},
-	api.Little: {mark: "\xff\xfe", low: 0, high: 1},
-	api.Big:    {mark: "\xfe\xff", low: 1, high: 0},
-	api.Latin:  {mark: ""},
+	api.Utf8:   {mark: "\xef\xbb\xbf", greatest: 0x10ffff},
+	api.Little: {mark: "\xff\xfe", greatest: 0x10ffff, low: 0, high: 1},
+	api.Big:    {mark: "\xfe\xff", greatest: 0x10ffff, low: 1, high: 0},
+	api.Latin:  {mark: "", greatest: 0xff},
 }
 
 // Kind of an atom. Those of the line ends have the numbers of the endings in package api.

@@ -17,6 +17,20 @@ func (c content) place(offset int) (atoms.Counts, api.Errno) {
 	return ahead, api.OK
 }
 
+// stretch tells between which places of the body two offsets lie.
+func (c content) stretch(from, to int) (begin, end int, err api.Errno) {
+	// Asked for both ahead of what place asks for one: that an offset is inside is named behind it.
+	if from < 0 || from > to || to > c.body.Counts().Bytes {
+		return 0, 0, api.ErrRange
+	}
+	first, err := c.place(from)
+	if err != api.OK {
+		return 0, 0, err
+	}
+	last, err := c.place(to)
+	return first.Body, last.Body, err
+}
+
 // position tells the line and the column behind the atoms of which this is counted.
 func (c content) position(ahead atoms.Counts) (line, column int) {
 	line = ahead.LineEnds()

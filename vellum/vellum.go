@@ -1,7 +1,12 @@
 // Package vellum: texts in several encodings, whatever their bytes: see DOC.md.
 package vellum
 
-import "vellum/api"
+import (
+	"unicode/utf8"
+
+	"vellum/api"
+	"vellum/code"
+)
 
 // Doc is a document.
 type Doc struct{ content }
@@ -99,16 +104,49 @@ func (d *Doc) Offset(line int, column int) (int, api.Errno) {
 }
 
 // Replace puts a text in place of what stands between two offsets (P8).
-func (d *Doc) Replace(from int, to int, text string) api.Errno { return api.OK }
+func (d *Doc) Replace(from int, to int, text string) api.Errno {
+	begin, end, err := d.stretch(from, to)
+	switch {
+	case err != api.OK:
+		return err
+	case !utf8.ValidString(text):
+		return api.ErrText
+	case !code.HasAll(d.encoding, text):
+		return api.ErrLatin
+	}
+	d.content = d.replaced(begin, end, text)
+	return api.OK
+}
 
 // SetMark sets or takes away the mark (P9).
-func (d *Doc) SetMark(on bool) api.Errno { return api.OK }
+func (d *Doc) SetMark(on bool) api.Errno {
+	if on && code.Mark(d.encoding) == "" {
+		return api.ErrMark
+	}
+	d.content = d.marked(on)
+	return api.OK
+}
 
 // SetEndings gives all lines one ending (P9).
-func (d *Doc) SetEndings(ending int) api.Errno { return api.OK }
+func (d *Doc) SetEndings(ending int) api.Errno {
+	if !isEnding(ending) {
+		return api.ErrEnding
+	}
+	d.content = d.reended(ending)
+	return api.OK
+}
 
 // Encode goes over to another encoding (P9).
-func (d *Doc) Encode(encoding int) api.Errno { return api.OK }
+func (d *Doc) Encode(encoding int) api.Errno {
+	switch {
+	case !isEncoding(encoding):
+		return api.ErrMode
+	case !d.fits(encoding):
+		return api.ErrEncode
+	}
+	d.content = d.recoded(encoding)
+	return api.OK
+}
 
 // Undo takes the last change back (P10).
 func (d *Doc) Undo() api.Errno { return api.OK }
