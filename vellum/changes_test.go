@@ -638,9 +638,16 @@ func TestP11LoadedAgainItIsTheSame(t *testing.T) {
 		}
 	}
 	for range 300 {
-		d := load(t, anyBytes(r, 20), r.Intn(4))
-		for range 10 {
-			anyChange(r, d).make(d)
+		d := load(t, anyBytes(r, 20), r.Intn(8))
+		for range 15 {
+			switch r.Intn(5) {
+			case 0:
+				d.Undo()
+			case 1:
+				d.Redo()
+			default:
+				anyChange(r, d).make(d)
+			}
 			encoding := d.Show().Encoding
 			same(d, encoding)
 			if d.Stable() {
@@ -652,28 +659,27 @@ func TestP11LoadedAgainItIsTheSame(t *testing.T) {
 
 func TestP11ReplaceLeavesWhatIsAheadAndBehind(t *testing.T) {
 	r := rand.New(rand.NewSource(26))
-	for range 2000 {
+	for range 4000 {
 		b, encoding := anyBytes(r, 25), r.Intn(4)
 		d := load(t, b, encoding)
-		_, atoms, _ := cutUp(b, encoding)
+		mark, atoms, _ := cutUp(b, encoding)
+		offset, place := 0, len(mark)
+		offsets, places := []int{offset}, []int{place}
+		for _, a := range atoms {
+			offset, place = offset+len(a.text), place+len(a.body)
+			offsets, places = append(offsets, offset), append(places, place)
+		}
 		from := r.Intn(len(atoms) + 1)
 		to := from + r.Intn(len(atoms)-from+1)
-		at, offsets, places := 0, []int{0}, []int{len(b)}
-		for i := len(atoms) - 1; i >= 0; i-- {
-			places[0] -= len(atoms[i].body)
+		text := []string{"", "-", "-\u00e9-", "\u00ff\u00fe"}[r.Intn(4)]
+		if encoding != api.Latin && r.Intn(3) == 0 {
+			text = "\ufeff" + text
 		}
-		if _, _, tail := cutUp(b, encoding); tail != "" {
-			places[0]--
-		}
-		for _, a := range atoms {
-			at += len(a.text)
-			offsets, places = append(offsets, at), append(places, places[len(places)-1]+len(a.body))
-		}
-		if d.Replace(offsets[from], offsets[to], "-\n-") != api.OK {
+		if d.Replace(offsets[from], offsets[to], text) != api.OK {
 			t.Fatalf("Replace of %q in %d is refused", b, encoding)
 		}
-		if got := d.Save(); !strings.HasPrefix(got, b[:places[from]]) || !strings.HasSuffix(got, b[places[to]:]) {
-			t.Fatalf("%q in %d became %q, with other bytes ahead of %d or behind %d", b, encoding, got, places[from], places[to])
+		if got, want := d.Save(), b[:places[from]]+inEncoding(text, encoding)+b[places[to]:]; got != want {
+			t.Fatalf("with %q put in %q in %d became %q, want %q", text, b, encoding, got, want)
 		}
 	}
 }

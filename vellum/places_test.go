@@ -316,13 +316,24 @@ func TestP7ManyPlacesOfAHugeDocument(t *testing.T) {
 
 func TestP11PositionAndOffsetUndoEachOther(t *testing.T) {
 	r := rand.New(rand.NewSource(11))
-	for range 200 {
+	for range 100 {
 		d := load(t, anyBytes(r, 300), r.Intn(8))
-		for offset := range d.Show().Bytes + 1 {
-			line, column, err := d.Position(offset)
-			if err == api.OK {
-				wantOffset(t, d, line, column, offset)
-			}
+		eachOther(t, d)
+		for range 4 {
+			anyChange(r, d).make(d)
+		}
+		eachOther(t, d)
+		d.Undo()
+		eachOther(t, d)
+	}
+}
+
+func eachOther(t *testing.T, d *vellum.Doc) {
+	t.Helper()
+	for offset := range d.Show().Bytes + 1 {
+		line, column, err := d.Position(offset)
+		if err == api.OK {
+			wantOffset(t, d, line, column, offset)
 		}
 	}
 }

@@ -9,7 +9,7 @@ import (
 )
 
 // Doc is a document.
-type Doc struct{ content }
+type Doc struct{ history }
 
 // Loader takes a document's bytes piece by piece.
 type Loader struct{ loading }
@@ -42,7 +42,7 @@ func Begin(mode int) (*Loader, api.Errno) {
 func (l *Loader) Push(piece string) { l.take(piece) }
 
 // End makes the document (P4).
-func (l *Loader) End() *Doc { return &Doc{l.all()} }
+func (l *Loader) End() *Doc { return &Doc{history{content: l.all()}} }
 
 // Save tells the document's bytes (P5).
 func (d *Doc) Save() string { return d.piece(0, d.size()) }
@@ -114,7 +114,7 @@ func (d *Doc) Replace(from int, to int, text string) api.Errno {
 	case !code.HasAll(d.encoding, text):
 		return api.ErrLatin
 	}
-	d.content = d.replaced(begin, end, text)
+	d.become(d.replaced(begin, end, text))
 	return api.OK
 }
 
@@ -123,7 +123,7 @@ func (d *Doc) SetMark(on bool) api.Errno {
 	if on && code.Mark(d.encoding) == "" {
 		return api.ErrMark
 	}
-	d.content = d.marked(on)
+	d.become(d.marked(on))
 	return api.OK
 }
 
@@ -132,7 +132,7 @@ func (d *Doc) SetEndings(ending int) api.Errno {
 	if !isEnding(ending) {
 		return api.ErrEnding
 	}
-	d.content = d.reended(ending)
+	d.become(d.reended(ending))
 	return api.OK
 }
 
@@ -144,12 +144,22 @@ func (d *Doc) Encode(encoding int) api.Errno {
 	case !d.fits(encoding):
 		return api.ErrEncode
 	}
-	d.content = d.recoded(encoding)
+	d.become(d.recoded(encoding))
 	return api.OK
 }
 
 // Undo takes the last change back (P10).
-func (d *Doc) Undo() api.Errno { return api.OK }
+func (d *Doc) Undo() api.Errno {
+	if !d.undo() {
+		return api.ErrUndo
+	}
+	return api.OK
+}
 
 // Redo makes it again (P10).
-func (d *Doc) Redo() api.Errno { return api.OK }
+func (d *Doc) Redo() api.Errno {
+	if !d.redo() {
+		return api.ErrRedo
+	}
+	return api.OK
+}
